@@ -1,0 +1,1 @@
+"""Surecall: calls of deeds made sure."""
