@@ -20,17 +20,28 @@ def rows_within(row):
     return ()
 
 
-def add_rows(body, rows, found):
-    """Put the rows, each ahead of those within it, behind what was found so far."""
+def lay(body, rows, found):
+    """Put the rows, each ahead of those within it, behind what was found so far.
+
+    Told are the rows as (number, row, inners), inners the rows within it, told likewise.
+    """
+    told = []
     for row in rows:
-        found.append((len(found), body, row))
-        for inner in rows_within(row):
-            add_rows(body, inner, found)
+        number = len(found)
+        found.append((number, body, row))
+        told.append((number, row, tuple([lay(body, inner, found) for inner in rows_within(row)])))
+    return tuple(told)
 
 
 def numbered(program):
     """All rows as (number, body, row), rising."""
     found = []
     for body, rows in bodies(program):
-        add_rows(body, rows, found)
+        lay(body, rows, found)
     return tuple(found)
+
+
+def laid(program):
+    """Of each body its rows as (number, row, inners), inners those within, told likewise."""
+    found = []
+    return {body: lay(body, rows, found) for body, rows in bodies(program)}

@@ -1,0 +1,112 @@
+"""Programs, choices and kinds there as chance makes them, the same ones each time."""
+
+import random
+
+VARIABLES = ("x", "y", "z")
+FIELDS = ("f", "g")
+DEEDS = ("do", "be", "go")
+WORDS = (
+    "make", "copy", "put", "put", "take", "take", "say", "call", "call", "call", "call", "call", "either", "again",
+    "bring",
+)
+
+
+class Maker:
+    """Makes one program; the number tells which one."""
+
+    def __init__(self, number):
+        self.chance = random.Random(number)
+        self.room = 60
+
+    def pick(self, things):
+        return things[self.chance.randrange(len(things))]
+
+    def program(self):
+        names = ["a", "b", "c", "d", "e", "k"][:2 + self.chance.randrange(5)]
+        self.elder = {}
+        for at, name in enumerate(names):
+            self.elder[name] = self.pick(names[:at]) if at and self.chance.randrange(6) else None
+        late = []
+        for name in names[1:]:
+            if self.elder[name] in late or not self.chance.randrange(4):
+                late.append(name)
+        self.names, self.late = names, tuple(sorted(late))
+        self.many = {deed: self.chance.randrange(3) for deed in DEEDS}
+        self.has = {}
+        for name in names:
+            own = [deed for deed in DEEDS if not self.chance.randrange(3 if self.elder[name] else 2)]
+            self.has[name] = own
+        kinds = []
+        for name in names:
+            deeds = []
+            for deed in self.has[name]:
+                params = VARIABLES[:self.many[deed]]
+                rows = self.rows(("own",) + VARIABLES, 2)
+                deeds.append((deed, params, rows, self.pick(("own", None) + VARIABLES)))
+            kinds.append((name, self.elder[name], tuple(deeds)))
+        main = tuple(("make", variable, self.made()) for variable in VARIABLES) + self.rows(VARIABLES, 3)
+        return (tuple(kinds), self.late, main)
+
+    def made(self):
+        """A kind to be made, now and then one that may not be there."""
+        if self.chance.randrange(6):
+            return self.pick([name for name in self.names if name not in self.late])
+        return self.pick(self.names)
+
+    def called(self):
+        """A kind to be called by, often one without an elder: more kinds are below it."""
+        if self.chance.randrange(3):
+            return self.pick([name for name in self.names if self.elder[name] is None])
+        return self.pick(self.names)
+
+    def answered(self, name):
+        found = []
+        while name is not None:
+            found += self.has[name]
+            name = self.elder[name]
+        return sorted(set(found))
+
+    def rows(self, readable, nested):
+        found = []
+        for at in range(1 + self.chance.randrange(7)):
+            if self.room:
+                self.room -= 1
+                found.append(self.row(readable, nested))
+        return tuple(found)
+
+    def row(self, readable, nested):
+        word = self.pick(WORDS)
+        x, y = self.pick(VARIABLES), self.pick(readable)
+        if word == "copy":
+            return (word, x, y)
+        if word == "put":
+            return (word, y, self.pick(FIELDS), self.pick(readable))
+        if word == "take":
+            return (word, x, y, self.pick(FIELDS))
+        if word == "call":
+            name = self.called()
+            if self.answered(name):
+                deed = self.pick(self.answered(name))
+                return (word, x, y, name, deed, tuple(self.pick(readable) for at in range(self.many[deed])))
+        if word == "either" and nested:
+            return (word, self.rows(readable, nested - 1), self.rows(readable, nested - 1))
+        if word == "again" and nested:
+            return (word, self.rows(readable, nested - 1))
+        if word == "bring" and self.late:
+            return (word, self.pick(self.late))
+        if word == "say":
+            return (word, self.pick(("hm", "ho")))
+        return ("make", x, self.made())
+
+    def choices(self):
+        return tuple(self.pick((0, 0, 1, 1, 2, 3, -1, 11)) for at in range(self.chance.randrange(12)))
+
+
+def program(number):
+    return Maker(number).program()
+
+
+def runs(number, many):
+    """Choices and a most for each of so many runs."""
+    maker = Maker(number)
+    return [(maker.choices(), maker.pick((5, 20, 60, 150))) for at in range(many)]
