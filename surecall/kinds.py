@@ -15,6 +15,11 @@ def is_below(program, one, other):
     return other in elders(program, one)
 
 
+def all_below(program, kinds, other):
+    """Those of the kinds that are below the other one, as they stand."""
+    return [kind for kind in kinds if is_below(program, kind, other)]
+
+
 def deed_of(program, kind, deed):
     """The deed as the kind itself has it, its elders left aside; None where it hasn't."""
     for name, elder, deeds in program[0]:

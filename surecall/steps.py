@@ -1,10 +1,11 @@
 """What flows, step by step: which facts stand by a row, and what each of them needs.
 
 A fact is ("body", body), the body is come to, or ("holds", spot, kind). Those that are known
-are the keys of a dict.
+are the keys of a dict. A body is a pair, or, apart by own's kind, a triple: all bodies are as
+main's is.
 """
 
-from surecall.kinds import answer, deed_of, is_below
+from surecall.kinds import all_below, answer, deed_of
 from surecall.programs import OWN
 from surecall.rows import MAIN, numbered
 
@@ -21,7 +22,7 @@ def holding(spot, kind):
 
 def spot_of(body, variable):
     """The spot of a body's variable."""
-    return ("of", body[0], body[1], variable)
+    return ("of",) + body + (variable,)
 
 
 def held(program, known, spot):
@@ -79,7 +80,7 @@ def by_answer(program, body, row, known, kind):
     The answer's body is ahead of what its variables hold, so that it is so in every row of steps.
     """
     word, x, y, top, deed, args = row
-    inner = (answer(program, kind, deed), deed)
+    inner = (answer(program, kind, deed), deed, kind)[:len(body)]
     name, params, rows, gives = deed_of(program, inner[0], deed)
     found = [(come_to(inner), ()), (holding(spot_of(inner, OWN), kind), ())]
     for param, arg in zip(params, args):
@@ -93,9 +94,8 @@ def by_call(program, there, body, row, known):
     """What stands by a call."""
     y = spot_of(body, row[2])
     found = []
-    for kind in held(program, known, y):
-        if is_below(program, kind, row[3]):
-            found.extend(needing(holding(y, kind), by_answer(program, body, row, known, kind)))
+    for kind in all_below(program, held(program, known, y), row[3]):
+        found.extend(needing(holding(y, kind), by_answer(program, body, row, known, kind)))
     return found
 
 
@@ -116,11 +116,28 @@ def given(program, there, body, row, known):
     return needing(come_to(body), giver(program, there, body, row, known))
 
 
-def all_steps(program, there):
-    """All that flows, as (fact, number, needs), no fact twice, each behind those that it needs."""
-    known = {come_to(MAIN): True}
-    found = [(come_to(MAIN), None, ())]
-    rows = numbered(program)
+def standing_for(program, main, body):
+    """The bodies that stand for a body of the program: itself, or one of each kind that may be own's."""
+    if len(main) == len(body):
+        return [body]
+    if body == MAIN:
+        return [main]
+    return [body + (name,) for name, elder, deeds in program[0]]
+
+
+def all_rows(program, main):
+    """All rows as (number, body, row), a row once of each body that stands for its own."""
+    found = []
+    for number, body, row in numbered(program):
+        found.extend([(number, one, row) for one in standing_for(program, main, body)])
+    return found
+
+
+def all_steps(program, there, main):
+    """All that flows from main, as (fact, number, needs), no fact twice, each behind those that it needs."""
+    known = {come_to(main): True}
+    found = [(come_to(main), None, ())]
+    rows = all_rows(program, main)
     many = 0
     while many < len(found):
         many = len(found)

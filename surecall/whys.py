@@ -1,7 +1,7 @@
 """Why a kind may stand at a call: the steps from makes to it."""
 
 from surecall.kinds import is_below
-from surecall.rows import numbered
+from surecall.rows import MAIN, numbered
 from surecall.steps import all_steps, come_to, holding, spot_of
 
 
@@ -21,7 +21,7 @@ def why(program, there, number, kind):
     """Steps to the kind at the call, the last one y's spot with it; None where the flow way doesn't tell it."""
     at, body, row = numbered(program)[number]
     goal = holding(spot_of(body, row[2]), kind)
-    steps = all_steps(program, there)
+    steps = all_steps(program, there, MAIN)
     if goal not in [step[0] for step in steps] or not is_below(program, kind, row[3]):
         return None
     return needed(steps, (goal, come_to(body)))

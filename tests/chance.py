@@ -2,7 +2,8 @@
 
 import random
 
-VARIABLES = ("x", "y", "z")
+FEW = ("x", "y", "z")
+MANY = ("s", "t", "u", "v", "w", "x", "y", "z")
 FIELDS = ("f", "g")
 DEEDS = ("do", "be", "go")
 WORDS = (
@@ -17,6 +18,8 @@ class Maker:
     def __init__(self, number):
         self.chance = random.Random(number)
         self.room = 60
+        # With many variables in main, and little in the deeds, less of what flows comes together.
+        self.variables, self.most = (MANY, 3) if number % 2 else (FEW, 7)
 
     def pick(self, things):
         return things[self.chance.randrange(len(things))]
@@ -40,11 +43,11 @@ class Maker:
         for name in names:
             deeds = []
             for deed in self.has[name]:
-                params = VARIABLES[:self.many[deed]]
-                rows = self.rows(("own",) + VARIABLES, 2)
-                deeds.append((deed, params, rows, self.pick(("own", None) + VARIABLES)))
+                params = FEW[:self.many[deed]]
+                rows = self.rows(("own",) + FEW, 2, self.most)
+                deeds.append((deed, params, rows, self.pick(("own", None) + FEW)))
             kinds.append((name, self.elder[name], tuple(deeds)))
-        main = tuple(("make", variable, self.made()) for variable in VARIABLES) + self.rows(VARIABLES, 3)
+        main = tuple(("make", variable, self.made()) for variable in self.variables) + self.rows(self.variables, 3, 12)
         return (tuple(kinds), self.late, main)
 
     def made(self):
@@ -66,9 +69,9 @@ class Maker:
             name = self.elder[name]
         return sorted(set(found))
 
-    def rows(self, readable, nested):
+    def rows(self, readable, nested, most):
         found = []
-        for at in range(1 + self.chance.randrange(7)):
+        for at in range(self.chance.randrange(1 + most)):
             if self.room:
                 self.room -= 1
                 found.append(self.row(readable, nested))
@@ -76,7 +79,7 @@ class Maker:
 
     def row(self, readable, nested):
         word = self.pick(WORDS)
-        x, y = self.pick(VARIABLES), self.pick(readable)
+        x, y = self.pick([word for word in readable if word != "own"]), self.pick(readable)
         if word == "copy":
             return (word, x, y)
         if word == "put":
@@ -89,9 +92,9 @@ class Maker:
                 deed = self.pick(self.answered(name))
                 return (word, x, y, name, deed, tuple(self.pick(readable) for at in range(self.many[deed])))
         if word == "either" and nested:
-            return (word, self.rows(readable, nested - 1), self.rows(readable, nested - 1))
+            return (word, self.rows(readable, nested - 1, 3), self.rows(readable, nested - 1, 3))
         if word == "again" and nested:
-            return (word, self.rows(readable, nested - 1))
+            return (word, self.rows(readable, nested - 1, 4))
         if word == "bring" and self.late:
             return (word, self.pick(self.late))
         if word == "say":

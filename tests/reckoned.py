@@ -147,6 +147,39 @@ class Walk:
         held[x] = inner.get(gives)
 
 
+def told_for_calls(program, there, kinds_of):
+    """Of each call's number the kinds that are there, told by its body, below the call's."""
+    found = []
+    for number, (body, row) in enumerate(rows_by_number(program)):
+        if row[0] == "call":
+            kinds = [kind for kind in there if kind in kinds_of(body) and below(program, kind, row[3])]
+            found.append((number, tuple(sorted(kinds))))
+    return tuple(found)
+
+
+def told_by_tree(program, there):
+    return told_for_calls(program, there, lambda body: there if body[0] in there + ("",) else ())
+
+
+def made(program, there):
+    """The bodies come to and the kinds made, each time all anew from those of the time ahead."""
+    rows, bodies, kinds = rows_by_number(program), set(), set()
+    while True:
+        more = {("", "")} | {
+            (answer(program, kind, row[4]), row[4]) for body, row in rows for kind in kinds
+            if row[0] == "call" and body in bodies and below(program, kind, row[3])
+        }
+        made_now = {row[2] for body, row in rows if row[0] == "make" and body in bodies and row[2] in there}
+        if (more, made_now) == (bodies, kinds):
+            return bodies, kinds
+        bodies, kinds = more, made_now
+
+
+def told_by_made(program, there):
+    bodies, kinds = made(program, there)
+    return told_for_calls(program, there, lambda body: kinds if body in bodies else ())
+
+
 def flow(program, there, apart=False):
     """The bodies come to, and all (spot, kind): every row by every kind, over and over until nothing new comes."""
     main = ("", "", "") if apart else ("", "")

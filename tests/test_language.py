@@ -1,6 +1,7 @@
 """The form of the package's files: the rules of ../shared/LANGUAGE.md that a look at the text can tell."""
 
 import ast
+import builtins
 import pathlib
 import re
 import unittest
@@ -112,6 +113,19 @@ class LanguageTest(unittest.TestCase):
             self.assertEqual([word for word in bound if word.startswith("_") and word not in UNDERSCORED], [], name)
             read = {node.id for node in ast.walk(tree) if isinstance(node, ast.Name)}
             self.assertEqual(read - bound - BUILT_IN, set(), name)
+
+    def test_locals_are_called_like_nothing_else(self):
+        # L15
+        for name, tree in trees():
+            drawn = {alias.asname or alias.name for node in tree.body if isinstance(node, ast.ImportFrom) for alias in node.names}
+            drawn |= {node.name for node in tree.body if isinstance(node, ast.ClassDef)}
+            for top in tree.body:
+                if isinstance(top, (ast.FunctionDef, ast.ClassDef)):
+                    inner = {node.arg for node in ast.walk(top) if isinstance(node, ast.arg)}
+                    inner |= {
+                        node.id for node in ast.walk(top) if isinstance(node, ast.Name) and isinstance(node.ctx, ast.Store)
+                    }
+                    self.assertEqual(inner & (drawn | set(dir(builtins))), set(), (name, top.name))
 
     def test_methods_and_values(self):
         values = {

@@ -5,12 +5,17 @@ import unittest
 import chance
 import reckoned
 from samples import RICH
+from surecall.flows import by_apart, by_flow
+from surecall.makes import by_made
 from surecall.plainrun import plain_run
-from surecall.programs import is_program
+from surecall.programs import calls, is_program
+from surecall.trees import by_tree
 from surecall.whylooks import shows_why
 from surecall.whys import why
 from why_cases import CASES, whole
 
+# Each way behind one that tells no fewer kinds.
+WAYS = (by_tree, by_made, by_flow, by_apart)
 PROGRAMS = [RICH] + [whole(case) for case in CASES] + [chance.program(number) for number in range(100)]
 
 
@@ -48,11 +53,59 @@ class PlainRunTest(unittest.TestCase):
         self.assertEqual(ends, {"done", "absent", "nothing", "unfit", "deep", "long"})
 
 
+def fewer(one, other):
+    """Whether what is told for a call is among what the other tells for it, of all calls."""
+    return all(number == same and set(kinds) <= set(others) for (number, kinds), (same, others) in zip(one, other))
+
+
+class WaysTest(unittest.TestCase):
+    def test_what_stands_at_a_call_done_is_told(self):
+        many = 0
+        for one, choices, most in runs():
+            for number, name, there in set(dones(one, plain_run(one, choices, most)[0])):
+                for way in WAYS:
+                    self.assertIn(name, dict(way(one, there))[number], (one, choices, most, number, way))
+                many += 1
+        self.assertGreater(many, 300)
+
+    def test_all_calls_rising_and_kinds_there_rising(self):
+        for one in PROGRAMS:
+            numbers = [number for number, body, row in calls(one)]
+            for there in some_theres(one):
+                for way in WAYS:
+                    told = way(one, there)
+                    self.assertIsInstance(told, tuple)
+                    self.assertEqual([number for number, kinds in told], numbers)
+                    for number, kinds in told:
+                        self.assertIsInstance(kinds, tuple)
+                        self.assertEqual(list(kinds), sorted(set(kinds)))
+                        self.assertLessEqual(set(kinds), set(there))
+
+    def test_each_finer_way_tells_no_more(self):
+        finer = {way: 0 for way in WAYS[1:]}
+        for one in PROGRAMS:
+            for there in some_theres(one):
+                for ahead, way in zip(WAYS, WAYS[1:]):
+                    self.assertTrue(fewer(way(one, there), ahead(one, there)), (one, there, way))
+                    finer[way] += way(one, there) != ahead(one, there)
+        self.assertGreater(min(finer.values()), 5)
+
+    def test_with_more_kinds_there_no_fewer_are_told(self):
+        for one in PROGRAMS:
+            theres = some_theres(one)
+            for there in theres:
+                for more in theres:
+                    if set(there) < set(more):
+                        for way in WAYS:
+                            self.assertTrue(fewer(way(one, there), way(one, more)), (one, there, more, way))
+
+
 class OwedTest(unittest.TestCase):
     def test_a_why_just_where_the_flow_way_tells_the_kind(self):
         for one in PROGRAMS:
             for there in some_theres(one):
-                for number, kinds in reckoned.told_by_flow(one, there):
+                self.assertEqual(by_flow(one, there), reckoned.told_by_flow(one, there))
+                for number, kinds in by_flow(one, there):
                     for name in reckoned.all_kinds(one):
                         steps = why(one, there, number, name)
                         self.assertIs(steps is not None, name in kinds, (one, there, number, name))
@@ -60,8 +113,7 @@ class OwedTest(unittest.TestCase):
     def test_a_why_of_each_kind_that_stands_at_a_call_done(self):
         many = 0
         for one, choices, most in runs():
-            owed = {(number, name, there) for number, name, there in dones(one, plain_run(one, choices, most)[0])}
-            for number, name, there in owed:
+            for number, name, there in set(dones(one, plain_run(one, choices, most)[0])):
                 self.assertIs(shows_why(one, there, number, name, why(one, there, number, name)), True)
                 many += 1
         self.assertGreater(many, 300)

@@ -18,6 +18,11 @@ class CaseTest(unittest.TestCase):
             self.assertEqual(steps[-1], case[5][-1], case[0])
             self.assertTrue(reckoned.is_why(whole(case), there(case), case[3], case[4], steps), case[0])
 
+    def test_the_call_s_body_is_among_the_facts_where_a_param_holds_it(self):
+        case = [case for case in CASES if case[0] == "params"][0]
+        steps = why(whole(case), there(case), case[3], case[4])
+        self.assertIn(("body", ("a", "do")), [fact for fact, number in steps])
+
     def test_of_another_kind_none(self):
         for case in CASES:
             told = dict(reckoned.told_by_flow(whole(case), there(case)))
@@ -86,11 +91,6 @@ class NoneTest(unittest.TestCase):
 
 
 class ChanceTest(unittest.TestCase):
-    def test_the_call_s_body_is_among_the_facts_where_a_param_holds_it(self):
-        case = [case for case in CASES if case[0] == "params"][0]
-        steps = why(whole(case), there(case), case[3], case[4])
-        self.assertIn(("body", ("a", "do")), [fact for fact, number in steps])
-
     def test_steps_as_the_document_says(self):
         many = 0
         for number in range(120):
