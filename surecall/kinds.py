@@ -20,6 +20,11 @@ def all_below(program, kinds, other):
     return [kind for kind in kinds if is_below(program, kind, other)]
 
 
+def all_but(program, names):
+    """All kinds but those named, rising; but the late ones they are those there at first."""
+    return tuple(sorted([kind[0] for kind in program[0] if kind[0] not in names]))
+
+
 def deed_of(program, kind, deed):
     """The deed as the kind itself has it, its elders left aside; None where it hasn't."""
     for name, elder, deeds in program[0]:

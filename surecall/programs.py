@@ -45,6 +45,11 @@ def is_tuple(thing, least, most):
     return isinstance(thing, tuple) and least <= len(thing) <= most
 
 
+def are_texts(thing, least, most):
+    """Whether it is a tuple of least to most texts."""
+    return is_tuple(thing, least, most) and all([isinstance(part, str) for part in thing])
+
+
 def are_unlike(words):
     """Whether no word stands there twice."""
     return len(set(words)) == len(words)

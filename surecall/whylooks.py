@@ -5,14 +5,9 @@ of tuples and texts alone: what else there is may not bear it.
 """
 
 from surecall.kinds import is_below
-from surecall.programs import is_tuple
+from surecall.programs import are_texts, is_tuple
 from surecall.rows import MAIN, numbered
 from surecall.steps import come_to, given, holding, spot_of
-
-
-def are_texts(thing, least, most):
-    """Whether it is a tuple of least to most texts."""
-    return is_tuple(thing, least, most) and all([isinstance(part, str) for part in thing])
 
 
 def is_fact(thing):

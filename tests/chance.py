@@ -113,3 +113,61 @@ def runs(number, many):
     """Choices and a most for each of so many runs."""
     maker = Maker(number)
     return [(maker.choices(), maker.pick((5, 20, 60, 150))) for at in range(many)]
+
+
+class LateMaker(Maker):
+    """Makes one program half of whose kinds are late; main calls ahead of and behind their coming."""
+
+    def __init__(self, number):
+        Maker.__init__(self, number)
+        self.variables = MANY
+
+    def program(self):
+        names = ["a", "b", "c", "d", "e", "k", "m"][:4 + self.chance.randrange(4)]
+        self.elder = {name: self.pick(names[:at]) if at and self.chance.randrange(20) else None for at, name in enumerate(names)}
+        late = []
+        for name in names[2:]:
+            if self.elder[name] in late or self.chance.randrange(2):
+                late.append(name)
+        self.names, self.late = names, tuple(sorted(late))
+        self.many = {deed: self.chance.randrange(2) for deed in DEEDS}
+        self.has = {name: [deed for deed in DEEDS if not at or not self.chance.randrange(3)] for at, name in enumerate(names)}
+        kinds = []
+        for name in names:
+            deeds = [(deed, FEW[:self.many[deed]], self.inner(), self.pick(("own", None, "x"))) for deed in self.has[name]]
+            kinds.append((name, self.elder[name], tuple(deeds)))
+        return (tuple(kinds), self.late, self.main())
+
+    def called(self):
+        """Most often the first kind, so that few runs end at a call that doesn't fit."""
+        return "a" if self.chance.randrange(8) else Maker.called(self)
+
+    def made(self):
+        """A kind that is there, or may be by then."""
+        return self.pick([name for name in self.names if name not in self.late] + list(self.brought))
+
+    def inner(self):
+        self.brought = self.late
+        rows = [self.row(("own",) + FEW[:1], 0) for at in range(self.chance.randrange(3))]
+        return tuple(row for row in rows if row[0] != "make" or row[2] not in self.late)
+
+    def main(self):
+        self.brought = ()
+        found = [("make", variable, self.made()) for variable in self.variables[:5]] + self.some_calls()
+        for name in self.late[:3]:
+            self.brought += (name,)
+            block = (("bring", name), ("make", self.pick(self.variables), name)) + tuple(self.some_calls())
+            found += block if self.chance.randrange(3) else [("either", block, (("say", "hm"),))]
+        # Done again, calls ahead of a coming are done behind it too.
+        return tuple(found[:20]) if self.chance.randrange(3) == 0 else (("again", tuple(found[:20])),)
+
+    def some_calls(self):
+        found = []
+        while len(found) < 3:
+            row = self.row(self.variables[:5], 0)
+            found += [row] * (row[0] in ("call", "copy"))
+        return found
+
+
+def late_program(number):
+    return LateMaker(number).program()

@@ -161,15 +161,19 @@ def told_by_tree(program, there):
     return told_for_calls(program, there, lambda body: there if body[0] in there + ("",) else ())
 
 
-def made(program, there):
-    """The bodies come to and the kinds made, each time all anew from those of the time ahead."""
+def made(program, there, more_bodies=(), more_kinds=()):
+    """The bodies come to and the kinds made, each time all anew from those of the time ahead.
+
+    Handed in may be some that are there whether or not anything comes to them or makes them.
+    """
     rows, bodies, kinds = rows_by_number(program), set(), set()
     while True:
-        more = {("", "")} | {
+        more = {("", "")} | set(more_bodies) | {
             (answer(program, kind, row[4]), row[4]) for body, row in rows for kind in kinds
             if row[0] == "call" and body in bodies and below(program, kind, row[3])
         }
         made_now = {row[2] for body, row in rows if row[0] == "make" and body in bodies and row[2] in there}
+        made_now |= set(more_kinds)
         if (more, made_now) == (bodies, kinds):
             return bodies, kinds
         bodies, kinds = more, made_now
@@ -180,10 +184,13 @@ def told_by_made(program, there):
     return told_for_calls(program, there, lambda body: kinds if body in bodies else ())
 
 
-def flow(program, there, apart=False):
-    """The bodies come to, and all (spot, kind): every row by every kind, over and over until nothing new comes."""
+def flow(program, there, apart=False, more_bodies=(), more_holds=()):
+    """The bodies come to, and all (spot, kind): every row by every kind, over and over until nothing new comes.
+
+    Handed in may be some that are there whether or not anything flows to them.
+    """
     main = ("", "", "") if apart else ("", "")
-    names, bodies, holds, many = all_kinds(program), {main}, set(), -1
+    names, bodies, holds, many = all_kinds(program), {main} | set(more_bodies), set(more_holds), -1
     rows = rows_by_number(program)
 
     def flow_to(spot, source):
@@ -216,6 +223,23 @@ def flow(program, there, apart=False):
                         if gives is not None:
                             flow_to(at(row[1]), ("of",) + inner + (gives,))
     return bodies, holds
+
+
+def flow_form(bodies, holds):
+    """Bodies and all (spot, kind) as a paper has them."""
+    spots = sorted({spot for spot, kind in holds})
+    return tuple(sorted(bodies)), tuple((spot, tuple(sorted(kind for one, kind in holds if one == spot))) for spot in spots)
+
+
+def closing(program, way, there, paper):
+    """The least closed paper with all in it that the paper has."""
+    if way == "tree":
+        return ()
+    if way == "made":
+        bodies, kinds = made(program, there, *paper)
+        return tuple(sorted(bodies)), tuple(sorted(kinds))
+    holds = [(spot, kind) for spot, kinds in paper[1] for kind in kinds]
+    return flow_form(*flow(program, there, way == "apart", paper[0], holds))
 
 
 def told_by_flow(program, there, apart=False):
