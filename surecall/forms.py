@@ -39,3 +39,22 @@ def is_form_for(program, form, kinds, deed):
     if form[0] == "asks":
         return len(form[1]) == len(pairs) and all([pair in form[1] for pair in pairs])
     return True
+
+
+def found_by(program, form, kind, deed):
+    """The kind's answer for the deed, found as the form says."""
+    if form[0] == "straight":
+        return form[1]
+    if form[0] == "asks":
+        return dict(form[1])[kind]
+    return answer(program, kind, deed)
+
+
+def cost_by(program, form, kind, deed):
+    """How many looks it costs to find the kind's answer for the deed as the form says."""
+    if form[0] == "straight":
+        return 0
+    if form[0] == "asks":
+        order = [one for one, found in form[1]]
+        return place_cost(1 + order.index(kind), len(order))
+    return asked(program, kind, deed)

@@ -71,3 +71,22 @@ def made(program, way):
             shape = form(program, first[number], row[4])
             found.append((number, shape, names(program, way, number, row[4], shape)))
     return tuple(found)
+
+
+def cost(program, shape, kind, deed):
+    if shape[0] == "straight":
+        return 0
+    if shape[0] == "asks":
+        return costs([one for one, found in shape[1]])[kind]
+    return asked(program, kind, deed)
+
+
+def looks(program, shapes, log):
+    """The made run's looks, by a log: of each call done what has come by then is found anew."""
+    rows, many = reckoned.rows_by_number(program), 0
+    for at, entry in enumerate(log):
+        if entry[0] == "did":
+            came = {other[1] for other in log[:at] if other[0] == "came"}
+            shape, named = {number: one for number, *one in shapes}[entry[1]]
+            many += cost(program, ("plain",) if came & set(named) else shape, entry[2], rows[entry[1]][1][4])
+    return many

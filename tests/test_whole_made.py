@@ -8,10 +8,14 @@ import reckoned
 import remade
 from more_papers import with_more
 from samples import RICH
+from surecall.answers import answers
 from surecall.looks import shows, told_by
+from surecall.maderun import made_run
 from surecall.making import made
 from surecall.papers import paper, told
 from surecall.plainrun import plain_run
+from surecall.savings import saved, turned_back
+from surecall.texts import read_program, show_program
 from test_whole import dones, fewer, some_theres
 
 WAYS = ("tree", "made", "flow", "apart")
@@ -95,6 +99,76 @@ class MadeTest(unittest.TestCase):
                         self.assertFalse(remade.can_be_asked(one, kinds[number], word))
                         many += 1
         self.assertGreater(many, 100)
+
+
+def costs_by_row(one, shapes, choices, most):
+    """Of each row done what it costs, by runs of one row more and more."""
+    looks = [made_run(one, shapes, choices, many)[1] for many in range(most + 1)]
+    return [after - before for before, after in zip(looks, looks[1:])]
+
+
+class MadeRunTest(unittest.TestCase):
+    def test_the_same_log_and_end_with_as_many_looks_fewer_as_are_told(self):
+        ends, fewer_looks = set(), {way: 0 for way in WAYS}
+        for at, one, choices, most in runs():
+            log, looks, end = plain_run(one, choices, most)
+            for way in WAYS:
+                found = made_run(one, MADE[at, way], choices, most)
+                self.assertEqual((found[0], found[2]), (log, end))
+                self.assertLessEqual(found[1], looks)
+                self.assertEqual(looks - found[1], saved(one, MADE[at, way], log))
+                ends.add((way, end[0]))
+                fewer_looks[way] += looks - found[1]
+        self.assertEqual(ends, {(way, end) for way in WAYS for end in ("done", "absent", "nothing", "unfit", "deep", "long")})
+        self.assertGreater(min(fewer_looks.values()), 100)
+
+    def test_ahead_of_at_and_behind_a_coming(self):
+        """Row by row a call costs as plain only where it was plain, or a kind has come that it names."""
+        many = {True: 0, False: 0}
+        for at in range(41, len(PROGRAMS)):
+            one, choices = PROGRAMS[at], (2,)
+            for way in WAYS:
+                shapes, came, place = MADE[at, way], (), 0
+                log = plain_run(one, choices, 60)[0]
+                spent = [cost for cost in costs_by_row(one, shapes, choices, 60) if cost]
+                for entry in log:
+                    if entry[0] == "came":
+                        came += (entry[1],)
+                    elif entry[0] == "did":
+                        form = dict((number, form) for number, form, names in turned_back(shapes, came))[entry[1]]
+                        cost = remade.cost(one, form, entry[2], reckoned.rows_by_number(one)[entry[1]][1][4])
+                        if cost:
+                            self.assertEqual(spent[place], cost)
+                            place += 1
+                        many[form == ("plain",)] += 1
+                self.assertEqual(place, len(spent))
+        self.assertGreater(min(many.values()), 100)
+
+    def test_just_those_that_name_it_are_plain_behind_a_coming(self):
+        for (at, way), shapes in MADE.items():
+            for name in PROGRAMS[at][1]:
+                for (number, form, names), (same, other, left) in zip(shapes, turned_back(shapes, (name,))):
+                    self.assertEqual(number, same)
+                    self.assertIs(other == ("plain",), form == ("plain",) or name in names)
+                    if name not in names:
+                        self.assertEqual((form, names), (other, left))
+
+
+class TextsTest(unittest.TestCase):
+    def test_what_is_written_is_read_as_it_was_and_answered_as_all_these_tell(self):
+        for at, one in enumerate(PROGRAMS):
+            text = show_program(one)
+            self.assertEqual(read_program(text), one)
+            for way in WAYS:
+                found = answers(f"{text}\nasked\ntold {way}\nmade {way}\nrun 99 2\nsaves {way} 99 2")
+                kinds = dict(told(one, way, reckoned.there_at_first(one)))
+                self.assertEqual(found[0], "; ".join(f"{number}:" + (",".join(kinds[number]) or "-") for number in sorted(kinds)) or "-")
+                forms = [entry.split(":")[1].split(" ")[0] for entry in found[1].split("; ") if entry != "-"]
+                self.assertEqual(forms, [form[0] for number, form, names in MADE[at, way]])
+                log, looks, end = plain_run(one, (2,), 99)
+                self.assertTrue(found[2].startswith(end[0]))
+                self.assertIn(f"; looks {looks}; said ", found[2])
+                self.assertEqual(found[3], f"{looks} {looks - saved(one, MADE[at, way], log)}")
 
 
 if __name__ == "__main__":
